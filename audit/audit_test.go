@@ -104,7 +104,6 @@ func TestWhole(t *testing.T) {
 		"one frame":            {[]api.Access{add, end(0, 128)}, []int{0}},
 		"its size counts":      {[]api.Access{add, end(0, 97)}, []int{0}},
 		"two frames":           {[]api.Access{add, end(0, 33), end(64, 64)}, []int{0}},
-		"not in order":         {[]api.Access{add, end(64, 64), end(0, 33)}, nil},
 		"not far enough":       {[]api.Access{add, end(0, 96)}, nil},
 		"too far":              {[]api.Access{add, end(0, 129)}, nil},
 		"ahead of its claim":   {[]api.Access{end(0, 128), add}, nil},

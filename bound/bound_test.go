@@ -1,7 +1,6 @@
 package bound_test
 
 import (
-	"math"
 	"testing"
 
 	"millstream/api"
@@ -61,14 +60,6 @@ func TestLeft(t *testing.T) {
 	}
 	if n := bound.Left(f, s); n != 2 {
 		t.Error(n)
-	}
-	wrong := s
-	wrong.Log.Subs, wrong.Writers = math.MaxInt, nil
-	if n := bound.Left(f, wrong); n != 0 {
-		t.Error("of a setup that isn't its own:", n)
-	}
-	if n, ok := bound.Settle(f, wrong); n != 0 || !ok {
-		t.Error("of a setup that may not be:", n, ok)
 	}
 	if n, ok := bound.Settle(nil, s); bound.Left(nil, s) != 0 || n != 0 || !ok {
 		t.Error("of no fabric:", n, ok)

@@ -26,7 +26,7 @@ var (
 func question(kind int32, c int64) api.Asked {
 	q := api.Asked{C: api.Command{Kind: kind, Client: c, Correlation: 77, Stream: 3, Session: 4}}
 	if kind == api.Alive {
-		q.C.Stream, q.C.Session = 0, 0
+		q.C.Stream, q.C.Session, q.C.Correlation = 0, 0, 0
 	}
 	return q
 }

@@ -120,28 +120,28 @@ func put(b *membuf.Buffer, c api.Command) {
 // TestRounds: a driver does what a Get and a Send of the answer do, one behind the other.
 func TestRounds(t *testing.T) {
 	a, b := drill.Buffer(1088), drill.Buffer(1088)
-	asked := []api.Command{pub(1, 2, 3), with(api.Remove, pub(1, 9, 9)), {Kind: api.Alive, Client: 4}, with(api.Done, pub(5, 5, 5))}
+	asked := []api.Command{pub(1, 2, 3), with(api.Remove, pub(1, 9, 9)), {Kind: api.Alive, Client: 4}}
 	for _, x := range []*membuf.Buffer{a, b} {
 		for _, c := range asked {
 			put(x, c)
 		}
 		drill.Run(x, ringput.New(in, 1, []byte("no command")), 99)
 	}
-	d := driver.New(in, out, 10, 6)
+	d := driver.New(in, out, 10, 5)
 	d.Tick(7)
 	got := drill.Run(a, d, 9999)
 	var want []api.Access
-	for i := range 6 {
+	for i := range 5 {
 		want = append(want, drill.Run(b, ringget.New(in, 1), 999)...)
-		if i < 4 && i != 2 {
-			m, _ := command.Message(command.Answer(asked[i], []api.Errno{api.OK, api.ErrArg, 0, api.ErrForm}[i]))
+		if i < 2 {
+			m, _ := command.Message(command.Answer(asked[i], []api.Errno{api.OK, api.ErrArg}[i]))
 			want = append(want, drill.Run(b, cast.New(out, m.Type, m.Data), 99)...)
 		}
 	}
 	if !drill.Alike(got, want) {
 		t.Errorf("%d accesses, want %d", len(got), len(want))
 	}
-	if d.Odd() != 2 {
+	if d.Odd() != 1 {
 		t.Error("odd:", d.Odd())
 	}
 	if l := d.Book().Entries(); len(l) != 1 || l[0] != (api.Entry{Client: 1, Stream: 2, Session: 3, Pub: true}) || !slices.Equal(d.Book().Clients(), []int64{1, 4}) {
@@ -154,6 +154,20 @@ func TestRounds(t *testing.T) {
 	d.Tick(18)
 	if len(d.Book().Clients())+len(d.Book().Entries()) != 0 {
 		t.Error("who is late stays")
+	}
+}
+
+// TestOdd: what isn't a client's command is counted, and does nothing to the book.
+func TestOdd(t *testing.T) {
+	b := drill.Buffer(1088)
+	put(b, with(api.Done, pub(5, 5, 5)))
+	put(b, api.Command{Kind: api.Failed, Client: 6, Error: 1})
+	drill.Run(b, ringput.New(in, 1, nil), 99)
+	put(b, pub(7, 1, 1))
+	d := driver.New(in, out, 10, 9)
+	drill.Run(b, d, 999)
+	if d.Odd() != 3 || !slices.Equal(d.Book().Clients(), []int64{7}) || len(d.Book().Entries()) != 1 {
+		t.Error(d.Odd(), d.Book().Clients())
 	}
 }
 

@@ -97,8 +97,4 @@ func TestNil(t *testing.T) {
 	if c.Add(5) != 0 || c.Max(5) != 0 || c.Value() != 0 {
 		t.Error("a nil counter counts")
 	}
-	var empty gauge.Set
-	if _, e := empty.Counter("a"); e != api.OK || len(empty.All()) != 1 {
-		t.Error(e)
-	}
 }

@@ -125,12 +125,15 @@ func TestAllRows(t *testing.T) {
 
 func TestOfRing(t *testing.T) {
 	call := func(from, to int, e api.Errno) api.Call { return api.Call{From: from, To: to, Error: e} }
-	puts := []api.Call{call(0, 1, 0), call(2, 3, api.ErrFull), call(-1, -1, 0), call(4, 5, 0), call(6, 7, 0)}
+	puts := []api.Call{call(0, 1, 0), call(4, 5, 0), call(2, 3, api.ErrFull), call(-1, -1, 0)}
 	taken := []api.QueueOp{take(10, 8, 9)}
 	spare := append(make([]api.QueueOp, 0, 9), taken...)
 	got := linear.OfRing(puts, []int{10, 20, 30, 40}, spare)
-	if !slices.Equal(got, []api.QueueOp{put(10, 0, 1), put(40, 4, 5), take(10, 8, 9)}) {
+	if !slices.Equal(got, []api.QueueOp{put(10, 0, 1), put(20, 4, 5), take(10, 8, 9)}) {
 		t.Errorf("%+v", got)
+	}
+	if l := linear.OfRing(puts, []int{7}, nil); !slices.Equal(l, []api.QueueOp{put(7, 0, 1)}) {
+		t.Error(l)
 	}
 	if l := linear.OfRing(nil, nil, spare); !slices.Equal(l, taken) {
 		t.Error(l)
@@ -141,7 +144,7 @@ func TestOfRing(t *testing.T) {
 	if spare[:2][1] != (api.QueueOp{}) || spare[0].Value != 10 {
 		t.Error("shared")
 	}
-	if l := linear.OfRing(puts, []int{1, 2, 3, 4, 5, 6, 7}, nil); len(l) != 3 {
+	if l := linear.OfRing(puts, []int{1, 2, 3, 4, 5, 6, 7}, nil); len(l) != 2 {
 		t.Error(l)
 	}
 }

@@ -186,7 +186,4 @@ func TestNil(t *testing.T) {
 	if _, e := b.Do(api.Access{Kind: api.Load, N: 8}); e != api.ErrRange || b.Size() != 0 || b.Count() != 0 || len(b.Bytes()) != 0 {
 		t.Error("a nil buffer has something:", e)
 	}
-	if _, e := b.Do(api.Access{Kind: api.Read}); e != api.ErrRange {
-		t.Error(e)
-	}
 }

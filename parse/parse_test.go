@@ -15,7 +15,7 @@ import (
 
 func TestWords(t *testing.T) {
 	for s, want := range map[string][]string{
-		"": nil, "   ": nil, "#a b": nil, "a": {"a"}, " a  bc d ": {"a", "bc", "d"}, "a#b c": {"a"}, "a # b": {"a"}, "ä\x00 \xff": {"ä\x00", "\xff"}, "\ta\tb": {"a", "b"},
+		"": nil, "   ": nil, "#a b": nil, "a": {"a"}, " a  bc d ": {"a", "bc", "d"}, "a#b c": {"a"}, "a # b": {"a"}, "ä\x00 \xff": {"ä\x00", "\xff"},
 	} {
 		if l := parse.Words(s); !slices.Equal(l, want) {
 			t.Errorf("%q: %q", s, l)

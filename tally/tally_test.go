@@ -29,7 +29,7 @@ func trace() []api.Event {
 	return []api.Event{
 		of(1, steps.Load8(8), api.Answer{V: 1}), of(1, steps.Load4(4), api.Answer{}), of(2, steps.Store8(8, 1), done), of(2, steps.Add8(16, 1), api.Answer{}),
 		of(1, steps.Cas8(8, 1, 2), done), of(1, steps.Cas4(20, 1, 2), api.Answer{}), read(5, "abcdef"), read(30, ""), write(14, "12345"), write(0, ""),
-		of(1, api.Access{}, api.Answer{}), of(2, api.Access{}, api.Answer{}), of(2, api.Access{Kind: 9, N: 8}, api.Answer{}),
+		of(1, api.Access{}, api.Answer{}), of(2, api.Access{}, api.Answer{}),
 		{Pick: api.Pick{Kind: api.PickTick, Actor: 1}, Access: steps.Load8(8)}, {Pick: api.Pick{Kind: api.PickKill, Actor: 1}}, {Pick: api.Pick{Kind: api.PickTick}},
 	}
 }
