@@ -204,12 +204,18 @@ func TestWatcher(t *testing.T) {
 	w := actor.Write(l, []api.Op{op(0, "dead")}, 0)
 	drill.Run(b, w, 5)
 	x := actor.Watch(l, 10, 99)
-	look := func() int { return len(drill.Run(b, x, 2)) }
+	// look looks once: whether it begins to mend then.
+	look := func() bool {
+		drill.Run(b, x, l.Subs)
+		a, _ := x.Next()
+		return a.At != meta.SubAt(l, 0)
+	}
 	x.Tick(7)
-	look()
+	if look() {
+		t.Error("mends at its first look")
+	}
 	x.Tick(17)
-	look()
-	if _, _, ok := x.Mending(); ok || x.Bytes() != 0 {
+	if look() || look() || x.Bytes() != 0 {
 		t.Error("mends within its timeout")
 	}
 	drill.Step(b, x)
@@ -231,34 +237,60 @@ func TestWatcher(t *testing.T) {
 		t.Error(from, to, ok)
 	}
 	drill.Run(b, x, 4)
-	if _, _, ok := x.Mending(); ok || x.Bytes() != 64 {
-		t.Error("mended:", x.Bytes())
+	if from, to, ok := x.Mending(); ok || from != 0 || to != 0 || x.Bytes() != 64 {
+		t.Error("mended:", from, to, x.Bytes())
 	}
 	// The clock was noted when it began to mend: 18.
-	drill.Run(b, x, 2)
+	if look() {
+		t.Error("mends at once again")
+	}
 	x.Tick(28)
-	drill.Run(b, x, 2)
-	if a, _ := x.Next(); a.At != meta.SubAt(l, 0) {
-		t.Errorf("%+v", a)
+	if look() {
+		t.Error("mends too soon again")
 	}
 	x.Tick(29)
+	if !look() {
+		t.Error("doesn't mend again")
+	}
+	// The clock goes on while it mends: the next look knows it.
+	x.Tick(40)
 	drill.Run(b, x, 2)
-	if a, _ := x.Next(); a.At != meta.TailAt(l, 0) {
-		t.Errorf("%+v", a)
+	if !look() {
+		t.Error("the clock was forgotten")
 	}
 	drill.Run(b, x, 2)
 	// A position that moved on is noted.
 	drill.Poke(b, meta.SubAt(l, 0), 64)
 	drill.Poke(b, meta.SubAt(l, 1), 64)
 	x.Tick(99)
-	drill.Run(b, x, 2)
-	if a, _ := x.Next(); a.At != meta.SubAt(l, 0) {
-		t.Errorf("%+v", a)
+	if look() || look() {
+		t.Error("a position that moved on is mended")
+	}
+}
+
+// TestLeast: a watcher mends at the least position of those that read.
+func TestLeast(t *testing.T) {
+	l := log()
+	l.Subs = 3
+	for _, at := range [][3]uint64{{32, 64, 96}, {96, 32, 64}, {64, 96, 32}} {
+		b := fill(l)
+		drill.Poke(b, meta.TailAt(l, 0), place.Pack(5, 128))
+		for i, v := range at {
+			drill.Poke(b, meta.SubAt(l, i), v)
+		}
+		x := actor.Watch(l, 0, 2)
+		x.Tick(1)
+		drill.Run(b, x, 3)
+		x.Tick(2)
+		drill.Run(b, x, 5)
+		if from, to, ok := x.Mending(); from != 32 || to != 128 || !ok {
+			t.Error(at, from, to, ok)
+		}
 	}
 	y := actor.Watch(l, 0, 2)
-	drill.Tell(y, drill.Number(1<<63), drill.Number(1<<63))
+	drill.Tell(y, drill.Number(5), drill.Number(1<<63), drill.Number(5))
 	y.Tick(1)
-	drill.Tell(y, drill.Number(1<<63), drill.Number(1<<63))
+	drill.Tell(y, drill.Number(5), drill.Number(1<<63), drill.Number(5))
 	if _, ok := y.Next(); ok || y.Bytes() != 0 {
 		t.Error("where no position can be nothing is mended")
 	}

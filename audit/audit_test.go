@@ -136,7 +136,7 @@ func TestMended(t *testing.T) {
 		return head.Words(api.Frame{Length: length, Type: typ})[0]
 	}
 	l := trace(t, 4,
-		steps.Store8(8, first(64, 0)), steps.Store8(8+32, first(33, 0)), steps.Store8(8+64, first(32, 1)), steps.Store8(8+96, first(-32, 0)),
+		steps.Store8(8, first(64, 0)), steps.Store8(8+32, first(33, 0)), steps.Store8(8+64, first(32, 1)), steps.Store8(8+96, first(-96, 0)),
 		steps.Store8(16, first(9, 0)), steps.Store4(8, 32), steps.Store8(m, first(16, 0)), steps.Store8(0, first(16, 0)),
 		steps.Store8(m-32, first(5, 0)), steps.Store8(8+128, 0))
 	if n, e := audit.Mended(log(), l, 4); n != 64+33+5 || e != api.OK {

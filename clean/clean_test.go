@@ -74,6 +74,7 @@ func TestAccesses(t *testing.T) {
 		"far":                   {far - 1, far, 1 << 40, 0, wipes(1<<40, 3), far - 1 + 128, 3},
 		"without window":        {far, far, 1 << 40, 0, wipes(1<<40, 3), far, 3},
 		"least's alone":         {far, far, 1<<40 - 1, 0, wipes(1<<40-1, 3), far, 3},
+		"just least's alone":    {far, far, 1<<40 - 3, 0, wipes(1<<40-3, 3), far, 3},
 		"the product counts":    {far, far, 1<<40 - 4, 0, wipes(1<<40-4, 3), 256 * (1<<40 + 1), 3},
 		"counts go round":       {far, far, 1<<32 - 1, 0, wipes(1<<32-1, 3), 256 * (1<<32 + 4), 3},
 		"a limit below 0":       {0, 0, 0, 1 << 63, nil, 128, 0},

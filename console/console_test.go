@@ -84,6 +84,8 @@ func TestPlay(t *testing.T) {
 	}
 	same(t, p.Settle(), "settled 0")
 	same(t, p.Lines()[:4], "writer 0 0 ok 64 tries 1", "writer 0 1 ok 96 tries 1", "reader 0 64 hello", "reader 0 96 -")
+	idle, _ := console.New("log 0 256 32 1 0 0 0\npolls 1 1\nstep 0 9\nstep 1 2\ntick 1")
+	same(t, idle.Lines(), "mended 0", "error 0", "steps 3")
 	q, _ := console.New(strings.Replace(scenario, "polls 20 4", "polls 1 1", 1))
 	same(t, q.Settle(), "left 6846")
 }

@@ -104,6 +104,9 @@ func TestAccesses(t *testing.T) {
 			[]api.Access{limit, clean, tail(1, low, 0), steps.Store4(m+24, 1)}, 0, api.ErrAdmin,
 		},
 		"not wiped": {at(2, 512), at(2, 512), "x", []api.Answer{n(1 << 40), n(0)}, []api.Access{limit, clean}, 0, api.ErrAdmin},
+		"the last term but one": {
+			at(1<<31-2, 512), at(1<<31-1, 0), "x", []api.Answer{n(1 << 62), n(1<<31 - 3), {}, {}}, []api.Access{limit, clean, tail(1, low+(1<<31-3)+1, 0), steps.Store4(m+24, 1<<31-1)}, 0, api.ErrAdmin,
+		},
 		"the last term": {
 			at(1<<31-1, 512), at(1<<31-1, 512), "x", []api.Answer{n(1 << 62), n(1<<31 - 2)}, []api.Access{limit, clean}, 0, api.ErrMax,
 		},

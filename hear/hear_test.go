@@ -102,8 +102,8 @@ func TestAccesses(t *testing.T) {
 		},
 	} {
 		h := hear.New(small, x.from)
-		if _, _, e := h.Result(); e != api.ErrBusy {
-			t.Error(name, e)
+		if m, ok, e := h.Result(); ok || len(m.Data) != 0 || e != api.ErrBusy {
+			t.Error(name, ok, e)
 		}
 		if got := drill.Tell(h, x.told...); !drill.Alike(got, x.want) {
 			t.Errorf("%s: %+v", name, got)

@@ -22,6 +22,7 @@ func TestLinear(t *testing.T) {
 		"nothing":                 {nil, nil, true, api.OK},
 		"put, then taken":         {[]api.QueueOp{put(1, 0, 1), take(1, 2, 3)}, []int{0, 1}, true, api.OK},
 		"taken ahead of its put":  {[]api.QueueOp{take(1, 0, 1), put(1, 2, 3)}, nil, false, api.OK},
+		"a value of 0":            {[]api.QueueOp{take(0, 0, 1)}, nil, false, api.OK},
 		"at once":                 {[]api.QueueOp{take(1, 0, 2), put(1, 2, 3)}, []int{1, 0}, true, api.OK},
 		"none, ahead of all":      {[]api.QueueOp{put(1, 1, 2), take(-1, 0, 0)}, []int{1, 0}, true, api.OK},
 		"none, though one stands": {[]api.QueueOp{put(1, 0, 0), take(-5, 1, 1)}, nil, false, api.OK},

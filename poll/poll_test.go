@@ -76,8 +76,9 @@ func TestAccesses(t *testing.T) {
 			9, []api.Answer{n(256*4 + 192), first(64, 0, 0), {}},
 			[]api.Access{sub, steps.Load8(256 + 200), move(256 * 5)}, nil, 64, api.OK,
 		},
-		"odd: too short": {9, []api.Answer{n(32), first(31, 0, 0)}, []api.Access{sub, steps.Load8(40)}, nil, 0, api.ErrOdd},
-		"odd: too long":  {9, []api.Answer{n(192), first(65, 0, 1)}, []api.Access{sub, steps.Load8(200)}, nil, 0, api.ErrOdd},
+		"odd: too short":   {9, []api.Answer{n(32), first(31, 0, 0)}, []api.Access{sub, steps.Load8(40)}, nil, 0, api.ErrOdd},
+		"odd: of one byte": {9, []api.Answer{n(32), first(1, 0, 0)}, []api.Access{sub, steps.Load8(40)}, nil, 0, api.ErrOdd},
+		"odd: too long":    {9, []api.Answer{n(192), first(65, 0, 1)}, []api.Access{sub, steps.Load8(200)}, nil, 0, api.ErrOdd},
 		"odd behind a frame": {
 			9, []api.Answer{n(32), first(33, 192, 1), {B: []byte("more")}, first(math.MaxInt32, 0, 1), {}},
 			[]api.Access{sub, steps.Load8(40), read(72, 1), steps.Load8(104), move(96)}, []api.Fragment{frag(96, 192, "more")}, 0, api.ErrOdd,

@@ -22,7 +22,7 @@ func TestFill(t *testing.T) {
 	b := drill.Buffer(104)
 	l := []api.Message{message(1, "abcd"), message(0, "x"), message(1, "123456789"), message(2, ""), message(3, "12345678"), message(4, "1"), message(5, "1"), message(6, "1")}
 	f := ring.Fill(small, l, 2)
-	l[0].Data[0] = 'z'
+	l[0].Data[0], l[4].Data[0] = 'z', 'z'
 	if len(f.Done()) != 0 || len(f.Places()) != 0 {
 		t.Error("something is done")
 	}
@@ -37,7 +37,7 @@ func TestFill(t *testing.T) {
 	if want := 6 + 5 + 6 + 6 + 3 + 2*3 + 3; n != want {
 		t.Errorf("%d accesses, want %d: tries are for all messages together", n, want)
 	}
-	if string(b.Bytes()[16:20]) != "abcd" {
+	if string(b.Bytes()[16:20]) != "abcd" || string(b.Bytes()[40:48]) != "12345678" {
 		t.Error("what was handed in was kept")
 	}
 	f.Done()[0], f.Places()[0] = 9, 9
@@ -126,6 +126,7 @@ func TestUsed(t *testing.T) {
 		"too far apart":        {set(72, 0, pad(64)), small, 0, api.ErrOdd},
 		"the head is ahead":    {set(0, 8), small, 0, api.ErrOdd},
 		"too short":            {set(40, 0, rec(7)), small, 0, api.ErrOdd},
+		"of one byte":          {set(40, 0, rec(1)), small, 0, api.ErrOdd},
 		"past the end":         {set(96, 48, rec(17)), small, 0, api.ErrOdd},
 		"past the tail":        {set(16, 0, rec(17)), small, 0, api.ErrOdd},
 		"the greatest":         {set(16, 0, rec(1<<31-1)), small, 0, api.ErrOdd},

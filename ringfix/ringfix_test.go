@@ -45,6 +45,7 @@ func TestAccesses(t *testing.T) {
 	}{
 		"empty":                        {[]api.Answer{n(24), n(24)}, nil, 0},
 		"a whole one":                  {[]api.Answer{n(0), n(24), n(head.Record(8, 1))}, []api.Access{steps.Load8(8)}, 0},
+		"one of one byte":              {[]api.Answer{n(0), n(24), n(head.Record(1, 1))}, []api.Access{steps.Load8(8)}, 0},
 		"one that was begun":           {[]api.Answer{n(64), n(80), n(head.Record(-11, 1)), {}}, []api.Access{steps.Load8(8), steps.Store8(8, head.Record(11, -1))}, 11},
 		"one up to the end":            {[]api.Answer{n(48), n(64), n(head.Record(-16, 1)), {}}, []api.Access{steps.Load8(56), steps.Store8(56, head.Record(16, -1))}, 16},
 		"one that is too long":         {[]api.Answer{n(48), n(64), n(head.Record(-17, 1))}, []api.Access{steps.Load8(56)}, 0},

@@ -57,8 +57,9 @@ func TestAccesses(t *testing.T) {
 			9, []api.Answer{drill.Number(48), record(16, -1), {}, {}, {}},
 			[]api.Access{steps.Load8(headAt), steps.Load8(56), zero(56, 8), zero(64, 8), steps.Store8(headAt, 64)}, 16, api.OK, nil,
 		},
-		"odd: too short": {9, []api.Answer{{}, record(7, 1)}, []api.Access{steps.Load8(headAt), steps.Load8(8)}, 0, api.ErrOdd, nil},
-		"odd: too long":  {9, []api.Answer{drill.Number(8), record(57, 1)}, []api.Access{steps.Load8(headAt), steps.Load8(16)}, 0, api.ErrOdd, nil},
+		"odd: too short":   {9, []api.Answer{{}, record(7, 1)}, []api.Access{steps.Load8(headAt), steps.Load8(8)}, 0, api.ErrOdd, nil},
+		"odd: of one byte": {9, []api.Answer{{}, record(1, 1)}, []api.Access{steps.Load8(headAt), steps.Load8(8)}, 0, api.ErrOdd, nil},
+		"odd: too long":    {9, []api.Answer{drill.Number(8), record(57, 1)}, []api.Access{steps.Load8(headAt), steps.Load8(16)}, 0, api.ErrOdd, nil},
 		"odd behind a message": {
 			9, []api.Answer{{}, record(9, 1), {B: []byte("more than one")}, record(1<<31-1, -1), {}, {}, {}},
 			[]api.Access{steps.Load8(headAt), steps.Load8(8), read(16, 1), steps.Load8(24), zero(8, 8), zero(16, 8), steps.Store8(headAt, 16)}, 0, api.ErrOdd, []string{"more than one"},

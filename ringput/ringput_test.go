@@ -116,6 +116,10 @@ func TestAccesses(t *testing.T) {
 			[]api.Answer{drill.Number(8), drill.Number(56), drill.Number(16), {}, done, {}, {}, {}, {}},
 			[]api.Access{steps.Load8(copyAt), steps.Load8(tailAt), steps.Load8(headAt), steps.Store8(copyAt, 16), steps.Cas8(tailAt, 56, 80), steps.Store8(64, head.Record(8, -1)), steps.Store8(8, begun), write(16, "abcd"), steps.Store4(8, 12)}, 64, api.OK,
 		},
+		"round the end, then somebody was ahead": {
+			[]api.Answer{drill.Number(48), drill.Number(56), {V: 80}, drill.Number(80), done, {}, {}, {}},
+			[]api.Access{steps.Load8(copyAt), steps.Load8(tailAt), steps.Cas8(tailAt, 56, 80), steps.Load8(tailAt), steps.Cas8(tailAt, 80, 96), steps.Store8(24, begun), write(32, "abcd"), steps.Store4(24, 12)}, 80, api.OK,
+		},
 		"no room at the beginning": {
 			[]api.Answer{drill.Number(8), drill.Number(56), drill.Number(8)},
 			[]api.Access{steps.Load8(copyAt), steps.Load8(tailAt), steps.Load8(headAt)}, 0, api.ErrFull,

@@ -22,6 +22,18 @@ func (c *clock) Next() (api.Access, bool) { return steps.Add8(0, 1), true }
 func (c *clock) Take(x api.Answer)        { c.told++ }
 func (c *clock) Tick(now int64)           { c.now = append(c.now, now) }
 
+// reuser is a machine that uses the same bytes again and again.
+type reuser struct{ b, told []byte }
+
+func (r *reuser) Next() (api.Access, bool) {
+	return api.Access{Kind: api.Write, N: len(r.b), B: r.b}, true
+}
+
+func (r *reuser) Take(x api.Answer) {
+	r.b[0]++
+	r.told = x.B
+}
+
 func step(i int) api.Pick   { return api.Pick{Kind: api.PickStep, Actor: i} }
 func kill(i int) api.Pick   { return api.Pick{Kind: api.PickKill, Actor: i} }
 func tick(n int64) api.Pick { return api.Pick{Kind: api.PickTick, N: n} }
@@ -87,6 +99,13 @@ func TestEvents(t *testing.T) {
 	w.Trace()[0].Access.B[0] = 'y'
 	if x := w.Trace(); string(x[0].Access.B) != "abc" || string(x[1].Answer.B) != "abc" {
 		t.Error("the trace is shared")
+	}
+	v := sched.New(drill.Buffer(8), []sched.Machine{&reuser{b: []byte("a")}})
+	v.Run([]api.Pick{step(0), step(0), step(0)})
+	for i, x := range v.Trace() {
+		if x.Access.B[0] != byte('a'+i) {
+			t.Error("the trace shares a machine's bytes:", x)
+		}
 	}
 	if b.Count() != 2 {
 		t.Error("accesses:", b.Count())

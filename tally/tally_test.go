@@ -28,16 +28,16 @@ func trace() []api.Event {
 	done := api.Answer{Done: true}
 	return []api.Event{
 		of(1, steps.Load8(8), api.Answer{V: 1}), of(1, steps.Load4(4), api.Answer{}), of(2, steps.Store8(8, 1), done), of(2, steps.Add8(16, 1), api.Answer{}),
-		of(1, steps.Cas8(8, 1, 2), done), of(1, steps.Cas4(20, 1, 2), api.Answer{}), read(5, "abcdef"), read(30, ""), write(14, "12345"), write(0, ""),
+		of(1, steps.Cas8(8, 1, 2), done), of(1, steps.Cas4(20, 1, 2), api.Answer{}), of(1, steps.Cas4(20, 1, 2), api.Answer{V: 9}), read(5, "abcdef"), read(30, ""), write(14, "12345"), write(0, ""),
 		of(1, api.Access{}, api.Answer{}), of(2, api.Access{}, api.Answer{}),
 		{Pick: api.Pick{Kind: api.PickTick, Actor: 1}, Access: steps.Load8(8)}, {Pick: api.Pick{Kind: api.PickKill, Actor: 1}}, {Pick: api.Pick{Kind: api.PickTick}},
 	}
 }
 
 func TestTallies(t *testing.T) {
-	one := api.Tally{Loads: 2, Cases: 2, Failed: 1, Reads: 2, In: 6, Idle: 1}
+	one := api.Tally{Loads: 2, Cases: 3, Failed: 2, Reads: 2, In: 6, Idle: 1}
 	two := api.Tally{Stores: 1, Adds: 1, Writes: 2, Out: 5, Idle: 1}
-	all := api.Tally{Loads: 2, Stores: 1, Adds: 1, Cases: 2, Failed: 1, Reads: 2, Writes: 2, In: 6, Out: 5, Idle: 2}
+	all := api.Tally{Loads: 2, Stores: 1, Adds: 1, Cases: 3, Failed: 2, Reads: 2, Writes: 2, In: 6, Out: 5, Idle: 2}
 	if got := tally.Actor(trace(), 1); got != one {
 		t.Errorf("%+v", got)
 	}
@@ -53,7 +53,7 @@ func TestTallies(t *testing.T) {
 }
 
 func TestCells(t *testing.T) {
-	want := []api.Cell{{At: 0, Looked: 2}, {At: 8, Looked: 3, Written: 3}, {At: 16, Looked: 2, Written: 2}}
+	want := []api.Cell{{At: 0, Looked: 2}, {At: 8, Looked: 3, Written: 3}, {At: 16, Looked: 3, Written: 2}}
 	if got := tally.Cells(trace()); !slices.Equal(got, want) {
 		t.Errorf("%+v", got)
 	}
@@ -68,7 +68,7 @@ func TestCells(t *testing.T) {
 		{of(0, steps.Load8(api.MaxBuffer), api.Answer{}), []api.Cell{{At: api.MaxBuffer, Looked: 1}}},
 		{of(0, api.Access{Kind: api.Load, N: 9}, api.Answer{}), nil}, {of(0, api.Access{Kind: api.Store, N: 0}, api.Answer{}), nil}, {of(0, api.Access{Kind: api.Add, N: -8}, api.Answer{}), nil},
 		{of(0, api.Access{Kind: api.Load, N: math.MaxInt}, api.Answer{}), nil}, {of(0, api.Access{Kind: api.Load, At: 7, N: 2}, api.Answer{}), []api.Cell{{At: 0, Looked: 1}, {At: 8, Looked: 1}}},
-		{read(8, "123456789"), nil}, {read(8, "12345678"), []api.Cell{{At: 8, Looked: 1}}}, {write(9, "12345678"), []api.Cell{{At: 8, Written: 1}, {At: 16, Written: 1}}}, {write(9, "123456789"), nil},
+		{read(0, "1"), []api.Cell{{At: 0, Looked: 1}}}, {read(8, "123456789"), nil}, {read(8, "12345678"), []api.Cell{{At: 8, Looked: 1}}}, {write(9, "12345678"), []api.Cell{{At: 8, Written: 1}, {At: 16, Written: 1}}}, {write(9, "123456789"), nil},
 		{of(0, api.Access{Kind: api.Write, At: 8, N: 8}, api.Answer{}), nil}, {of(0, steps.Cas8(8, 0, 0), api.Answer{}), []api.Cell{{At: 8, Looked: 1}}},
 	} {
 		if got := tally.Cells([]api.Event{x.e}); !slices.Equal(got, x.want) {

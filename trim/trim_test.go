@@ -84,6 +84,10 @@ func TestCut(t *testing.T) {
 			t.Error(n, y, e)
 		}
 		_ = append(y.Picks, api.Pick{Kind: 9})
+		y.Setup.Writers[0][0].Data[0] = 'x'
+		if string(x.Setup.Writers[0][0].Data) != "hello" {
+			t.Error("shared")
+		}
 		if x.Picks[5].Kind != api.PickTick {
 			t.Error("shared")
 		}

@@ -68,6 +68,7 @@ func TestAccesses(t *testing.T) {
 		"another term":         {0, []api.Answer{raw(8, 64)}, []api.Access{tail}, 0, 0},
 		"nothing claimed":      {64, []api.Answer{raw(5, 64)}, []api.Access{tail}, 0, 0},
 		"a whole one":          {64, []api.Answer{raw(5, 128), first(40)}, []api.Access{tail, steps.Load8(72)}, 0, 0},
+		"one of one byte":      {64, []api.Answer{raw(5, 128), first(1)}, []api.Access{tail, steps.Load8(72)}, 0, 0},
 		"begun":                {64, []api.Answer{raw(5, 999), first(-40)}, append([]api.Access{tail, steps.Load8(72)}, padding(0, 64, 64, 5)...), 64, 256},
 		"begun, up to the end": {192, []api.Answer{raw(5, 256), first(-64)}, append([]api.Access{tail, steps.Load8(200)}, padding(0, 192, 64, 5)...), 64, 256},
 		"too long":             {192, []api.Answer{raw(5, 256), first(-65)}, []api.Access{tail, steps.Load8(200)}, 0, 0},

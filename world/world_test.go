@@ -156,8 +156,11 @@ func TestLeftAlone(t *testing.T) {
 	if f.Dead(0) {
 		t.Error("killed too soon")
 	}
-	for range 3 {
+	for range 5 {
 		f.Pick(step(1))
+	}
+	if v, ok := f.Slot(1); !ok || v.Offset != 96 {
+		t.Error("the slot behind what is mended:", v)
 	}
 	f.Pick(watch)
 	if !f.Dead(0) || f.Dead(1) || f.Dead(2) {
