@@ -4,6 +4,7 @@ import (
 	"millstream/api"
 	"millstream/chain"
 	"millstream/clean"
+	"millstream/meta"
 )
 
 // Keeper cleans a log.
@@ -17,6 +18,10 @@ type Keeper struct {
 // Keep cleans a log, so many times.
 func Keep(l api.Log, times int) *Keeper {
 	k := &Keeper{l: l, times: min(times, api.MaxTimes)}
+	if meta.Check(l) != api.OK {
+		// Each clean would end at once.
+		k.times = 0
+	}
 	k.cleans = chain.New(k.more, k.ended)
 	return k
 }

@@ -42,8 +42,13 @@ func (r *Reader) ended(p *poll.Poll) {
 			r.messages = append(r.messages, api.Got{End: f.End, Data: b})
 		}
 	}
-	if _, e := p.Result(); r.e == api.OK {
+	_, e := p.Result()
+	if r.e == api.OK {
 		r.e = e
+	}
+	if e == api.ErrArg {
+		// Each further poll would end so at once.
+		r.times = 0
 	}
 }
 
