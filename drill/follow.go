@@ -46,12 +46,27 @@ func Follow(r *Rand, b *membuf.Buffer, m steps.Machine, most int, model func(ask
 		}
 		x, _ := b.Do(a)
 		if r.Below(12) < odds {
-			x = r.Answer()
+			x = r.mild(a)
 		}
 		told = append(told, x)
 		m.Take(x)
 	}
 	return -1
+}
+
+// mild is any answer that a buffer might give, if others wrote it too: small numbers, and headers of small lengths.
+func (r *Rand) mild(a api.Access) api.Answer {
+	v := uint64(r.Below(100)) * 8
+	switch r.Below(4) {
+	case 0:
+		v = uint64(uint32(r.Below(200)-60)) | uint64(uint32(r.Below(4)-1))<<32
+	case 1:
+		v = 0
+	}
+	if a.N == 4 {
+		v &= 0xffffffff
+	}
+	return api.Answer{V: v, Done: a.Kind == api.Cas && r.Below(2) == 0, B: r.Bytes(r.Below(12))}
 }
 
 // Out asks for n bytes at a place.

@@ -54,8 +54,7 @@ func TestAccesses(t *testing.T) {
 		typ  int32
 		e    api.Errno
 	}{
-		"nothing":      {ear(8, 16, 1), []api.Answer{n(16)}, []api.Access{tail}, ear(8, 16, 1), "", 0, api.OK},
-		"a tail below": {ear(8, 16, 1), []api.Answer{n(1 << 63)}, []api.Access{tail}, ear(8, 16, 1), "", 0, api.OK},
+		"nothing": {ear(8, 16, 1), []api.Answer{n(16)}, []api.Access{tail}, ear(8, 16, 1), "", 0, api.OK},
 		"one": {
 			ear(0, 16, 1), []api.Answer{n(32), n(79), record(11, 5), {B: []byte("abc")}, n(79)},
 			[]api.Access{tail, intent, steps.Load8(24), read(32, 3), intent}, ear(16, 32, 1), "abc", 5, api.OK,
