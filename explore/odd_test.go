@@ -24,6 +24,14 @@ func TestIsOdd(t *testing.T) {
 			t.Error(i, "isn't odd")
 		}
 	}
+	two := s("data", api.OpCommit)
+	two.Writers = append(two.Writers, []api.Op{{Data: []byte("ahead")}})
+	g, _ := world.New(two)
+	g.Run(Picks([]int{1, 1, 1, 1, 1, 1, 1, 1, 1, 1}))
+	g.Rounds(60)
+	if l := g.Messages(0); len(l) != 3 || string(l[0].Data) != "ahead" || isOdd(g, two) {
+		t.Error("the order of ends isn't that of writers:", l)
+	}
 	a, b := api.Got{End: 32}, api.Got{End: 64, Data: []byte("x")}
 	for i, x := range []struct {
 		read, put []api.Got

@@ -204,6 +204,19 @@ func TestNil(t *testing.T) {
 	}
 }
 
+// TestError: the first error of a reader is told.
+func TestError(t *testing.T) {
+	s := setup()
+	s.Most = 0
+	if f := make1(t, s); f.Error() != api.ErrArg {
+		t.Error(f.Error())
+	}
+	s.Polls = 0
+	if f := make1(t, s); f.Error() != api.OK {
+		t.Error(f.Error())
+	}
+}
+
 // TestWhateverIsPicked: each reader reads a beginning of what was appended or committed whole; nothing is odd.
 func TestWhateverIsPicked(t *testing.T) {
 	r := drill.Rand(33)
