@@ -2,6 +2,7 @@ package hear_test
 
 import (
 	"bytes"
+	"math"
 	"testing"
 
 	"millstream/api"
@@ -9,6 +10,7 @@ import (
 	"millstream/drill"
 	"millstream/head"
 	"millstream/hear"
+	"millstream/membuf"
 	"millstream/steps"
 )
 
@@ -117,6 +119,61 @@ func TestAccesses(t *testing.T) {
 	}
 }
 
+// TestAccessesGoRound: which position is more is told by their difference, as a number of eight bytes with its sign.
+func TestAccessesGoRound(t *testing.T) {
+	const low, high = math.MinInt64, math.MaxInt64
+	n := func(v int64) api.Answer { return drill.Number(uint64(v)) }
+	tail, intent, latest := steps.Load8(tailAt), steps.Load8(intentAt), steps.Load8(latestAt)
+	lapped := []api.Access{tail, intent, latest}
+	for name, x := range map[string]struct {
+		next  int64
+		told  []api.Answer
+		want  []api.Access
+		to    api.Ear
+		heard bool
+		e     api.Errno
+	}{
+		"a tail that is 2^63 ahead":     {low + 88, []api.Answer{n(88)}, []api.Access{tail}, ear(0, low+88, 0), false, api.OK},
+		"a tail that is 2^63 behind":    {88, []api.Answer{n(low + 88)}, []api.Access{tail}, ear(0, 88, 0), false, api.OK},
+		"a tail that is 1 behind":       {low, []api.Answer{n(high)}, []api.Access{tail}, ear(0, low, 0), false, api.OK},
+		"a tail that is the same":       {low, []api.Answer{n(low)}, []api.Access{tail}, ear(0, low, 0), false, api.OK},
+		"a tail that is 1 ahead":        {high, []api.Answer{n(low)}, []api.Access{tail, intent}, ear(0, high, 0), false, api.ErrBusy},
+		"a tail that is 2^63-1 ahead":   {1, []api.Answer{n(low)}, []api.Access{tail, intent}, ear(0, 1, 0), false, api.ErrBusy},
+		"an intent that is 63 ahead":    {high - 7, []api.Answer{n(low), n(low + 55)}, []api.Access{tail, intent, steps.Load8(64)}, ear(0, high-7, 0), false, api.ErrBusy},
+		"an intent that is 64 ahead":    {high - 7, []api.Answer{n(low), n(low + 56)}, lapped, ear(0, high-7, 1), false, api.ErrBusy},
+		"an intent that is 2^63-1":      {9, []api.Answer{n(24), n(low + 8)}, lapped, ear(0, 9, 1), false, api.ErrBusy},
+		"an intent that is 2^63 behind": {8, []api.Answer{n(24), n(low + 8)}, []api.Access{tail, intent, steps.Load8(16)}, ear(0, 8, 0), false, api.ErrBusy},
+		"an intent that is behind":      {low, []api.Answer{n(low + 8), n(high)}, []api.Access{tail, intent, steps.Load8(8)}, ear(0, low, 0), false, api.ErrBusy},
+		"one over the end": {
+			high - 7, []api.Answer{n(low), n(low), record(8, 5), n(low + 55)},
+			[]api.Access{tail, intent, steps.Load8(64), intent}, ear(high-7, low, 0), true, api.OK,
+		},
+		"overwritten over the end": {
+			high - 7, []api.Answer{n(low), n(low), record(8, 5), n(low + 56)},
+			[]api.Access{tail, intent, steps.Load8(64), intent}, ear(0, high-7, 1), false, api.ErrLost,
+		},
+		"padding up to the end": {
+			high - 15, []api.Answer{n(low + 8), n(low + 8), record(16, -1), n(low + 47), record(8, 5), n(low + 63)},
+			[]api.Access{tail, intent, steps.Load8(56), intent, steps.Load8(8), intent}, ear(low, low+8, 0), true, api.OK,
+		},
+		"padding that is overwritten over the end": {
+			high - 15, []api.Answer{n(low + 8), n(low + 8), record(16, -1), n(low + 48)},
+			[]api.Access{tail, intent, steps.Load8(56), intent}, ear(0, high-15, 1), false, api.ErrLost,
+		},
+	} {
+		h := hear.New(small, ear(0, x.next, 0))
+		if got := drill.Tell(h, x.told...); !drill.Alike(got, x.want) {
+			t.Errorf("%s: %+v", name, got)
+		}
+		if _, ok, e := h.Result(); ok != x.heard || e != x.e {
+			t.Errorf("%s: %v, %d", name, ok, e)
+		}
+		if h.State() != x.to {
+			t.Errorf("%s: %+v, want %+v", name, h.State(), x.to)
+		}
+	}
+}
+
 // TestStateSoFar: Lapped grows as soon as the intent tells it.
 func TestStateSoFar(t *testing.T) {
 	h := hear.New(small, ear(0, 16, 4))
@@ -147,6 +204,18 @@ func turns(r *drill.Rand, near bool, behind int64) int {
 	return r.Below(2)
 }
 
+// start lets a broadcast begin at 0, or so little ahead of where positions go round that they do within a few messages: where it begins.
+func start(r *drill.Rand, b *membuf.Buffer, g api.Ring) int64 {
+	from := int64(0)
+	if r.Below(2) == 0 {
+		from = math.MaxInt64 - 7 - 8*int64(r.Below(20))
+	}
+	for i := range 3 {
+		drill.Poke(b, g.Base+g.Size+8*i, uint64(from))
+	}
+	return from
+}
+
 // TestSteps: whatever the turns, what is heard was sent, whole, and stands behind what was heard ahead of it; who keeps near loses nothing.
 func TestSteps(t *testing.T) {
 	r := drill.Rand(14)
@@ -158,9 +227,13 @@ func TestSteps(t *testing.T) {
 		for i := range 30 {
 			l = append(l, api.Message{Type: int32(i + 1), Data: r.Bytes(r.Below(9))})
 		}
+		state := api.Ear{Next: start(&r, b, small)}
 		c := cast.All(small, l)
-		h, state, last, heard := hear.New(small, api.Ear{}), api.Ear{}, int32(0), 0
-		for ended := 0; ended < 2; {
+		h, last, heard := hear.New(small, state), int32(0), 0
+		for ended, left := 0, 5000; ended < 2; left-- {
+			if left == 0 {
+				t.Fatal("no end")
+			}
 			for range turns(&r, near, int64(drill.Peek(b, intentAt))-state.Next) {
 				drill.Step(b, c)
 			}

@@ -2,6 +2,7 @@ package hear_test
 
 import (
 	"bytes"
+	"math"
 	"testing"
 
 	"millstream/api"
@@ -15,11 +16,12 @@ import (
 func listen(ask drill.Asker, r api.Ring, s api.Ear) (m api.Message, ok bool, to api.Ear, e api.Errno) {
 	size := int64(r.Size)
 	place := func(v int64) int64 { return int64(uint64(v) % uint64(size)) }
-	if int64(ask.Load8(r.Base+r.Size+8)) <= s.Next {
+	if int64(ask.Load8(r.Base+r.Size+8)-uint64(s.Next)) <= 0 {
 		return m, false, s, api.OK
 	}
 	cursor := s.Next
-	if int64(ask.Load8(r.Base+r.Size)) >= cursor+size {
+	over := func() bool { return int64(ask.Load8(r.Base+r.Size)-uint64(cursor)) >= size }
+	if over() {
 		s.Lapped++
 		cursor = int64(ask.Load8(r.Base + r.Size + 16))
 	}
@@ -34,14 +36,14 @@ func listen(ask drill.Asker, r api.Ring, s api.Ear) (m api.Message, ok bool, to 
 			return lost()
 		}
 		if typ == api.PadRecord {
-			if padded || takes < size-at || int64(ask.Load8(r.Base+r.Size)) >= cursor+size {
+			if padded || takes < size-at || over() {
 				return lost()
 			}
 			cursor += takes
 			continue
 		}
 		b := ask.Out(r.Base+int(at)+8, int(length)-8)
-		if int64(ask.Load8(r.Base+r.Size)) >= cursor+size {
+		if over() {
 			return lost()
 		}
 		return api.Message{Type: typ, Data: b}, true, api.Ear{Cursor: cursor, Next: cursor + takes, Lapped: s.Lapped}, api.OK
@@ -55,6 +57,7 @@ func TestModel(t *testing.T) {
 	for range 4000 {
 		g := api.Ring{Base: 8 * r.Below(3), Size: 64 << r.Below(2)}
 		b := drill.Buffer(g.Base + g.Size + 32)
+		from := start(&r, b, g)
 		var places []int64
 		for range r.Below(20) {
 			c := cast.New(g, int32(1+r.Below(9)), r.Bytes(r.Below(g.Size/8+1)))
@@ -62,9 +65,12 @@ func TestModel(t *testing.T) {
 			at, _ := c.Result()
 			places = append(places, at)
 		}
-		s := api.Ear{Lapped: int64(r.Below(3))}
+		s := api.Ear{Next: from, Lapped: int64(r.Below(3))}
 		if k := len(places); k > 0 {
 			s.Next = places[max(0, k-1-r.Below(7))]
+		}
+		if r.Below(8) == 0 {
+			s.Next += math.MinInt64 + 8*int64(r.Below(40)-20)
 		}
 		h := hear.New(g, s)
 		var m api.Message

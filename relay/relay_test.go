@@ -2,6 +2,7 @@ package relay_test
 
 import (
 	"bytes"
+	"math"
 	"testing"
 
 	"millstream/api"
@@ -62,6 +63,51 @@ func TestAccesses(t *testing.T) {
 	l[0].Message.Data[0] = 'x'
 	if string(x.Heard()[0].Message.Data) != "a" {
 		t.Error("shared")
+	}
+}
+
+// TestGoesRound: a relay's accesses are those of its listeners, also where positions go round.
+func TestGoesRound(t *testing.T) {
+	tail, intent := steps.Load8(80), steps.Load8(72)
+	low := drill.Number(1 << 63)
+	for _, x := range []struct {
+		next int64
+		told []api.Answer
+		want []api.Access
+	}{
+		{1, []api.Answer{low}, []api.Access{tail, intent}},
+		{0, []api.Answer{low}, []api.Access{tail}},
+		{math.MaxInt64 - 7, []api.Answer{low, drill.Number(1<<63 + 56)}, []api.Access{tail, intent, steps.Load8(88)}},
+		{8, []api.Answer{drill.Number(24), drill.Number(1<<63 + 8)}, []api.Access{tail, intent, steps.Load8(16)}},
+	} {
+		if got := drill.Tell(relay.New(small, api.Ear{Next: x.next}, 1), x.told...); !drill.Alike(got, x.want) {
+			t.Errorf("from %d: %+v", x.next, got)
+		}
+	}
+}
+
+// TestHearsRound: who keeps near hears all messages in order, also where their positions go round.
+func TestHearsRound(t *testing.T) {
+	from := int64(math.MaxInt64 - 39)
+	b := drill.Buffer(104)
+	for i := range 3 {
+		drill.Poke(b, 72+8*i, uint64(from))
+	}
+	state := api.Ear{Next: from}
+	for i := range 12 {
+		c := cast.New(small, int32(i+1), []byte{byte(i)})
+		drill.Run(b, c, 99)
+		at, _ := c.Result()
+		x := relay.New(small, state, 2)
+		drill.Run(b, x, 99)
+		l := x.Heard()
+		if len(l) != 1 || l[0].At != at || l[0].Message.Type != int32(i+1) || !bytes.Equal(l[0].Message.Data, []byte{byte(i)}) || x.Losses() != 0 {
+			t.Fatal(i, l, x.Losses())
+		}
+		state = x.State()
+	}
+	if state.Next >= 0 || state.Lapped != 0 {
+		t.Error(state)
 	}
 }
 
